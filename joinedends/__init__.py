@@ -1,0 +1,1 @@
+"""Equations between terms: rewriting, completion, derivations and finite models."""
