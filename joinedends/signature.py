@@ -67,7 +67,7 @@ class Signature:
     def copy(self):
         """Return a new signature with the same operations."""
         other = Signature()
-        for name in self._names:
+        for name in list(self._names):
             other.declare(name, self._arities[name], commutative=self._flags[name])
         return other
 
