@@ -19,7 +19,7 @@ def profile(term):
         level += 1
         total += len(row)
         below = []
-        for part in row:
+        for part in list(row):
             if isinstance(part, tuple):
                 below.extend(part[1:])
             else:

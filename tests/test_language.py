@@ -25,6 +25,7 @@ WORDS = re.compile(r"""\b(type|typing|typing_extensions|enum|Enum|IntEnum|StrEnu
 STATEMENTS = (ast.Assign, ast.AugAssign, ast.If, ast.While, ast.For, ast.Return, ast.Break, ast.Continue, ast.Pass,
               ast.Raise, ast.Assert, ast.Delete, ast.Try, ast.Expr, ast.FunctionDef, ast.ClassDef, ast.ImportFrom)
 VIEWS = {"zip", "enumerate", "reversed", "range"}
+CHANGING = {"append", "clear", "extend", "insert", "pop", "remove", "reverse", "setdefault", "update", "add"}
 TAKERS = {"list", "tuple", "dict", "sorted", "sum", "any", "all", "enumerate", "zip", "min", "max"}
 
 
@@ -40,6 +41,40 @@ def parents_of(tree):
 
 def called(node):
     return node.func.id if isinstance(node, ast.Call) and isinstance(node.func, ast.Name) else None
+
+
+def place(node):
+    """The name, attribute or item that a value is read from, or None if the value is a new one."""
+    while isinstance(node, ast.Call) and called(node) in VIEWS or isinstance(node, ast.Call) and node.args == [] \
+            and isinstance(node.func, ast.Attribute) and node.func.attr in ("items", "keys", "values"):
+        node = node.args[0] if node.args else node.func.value
+    return ast.unparse(node) if isinstance(node, (ast.Name, ast.Attribute, ast.Subscript)) else None
+
+
+def same_places(function):
+    """For each name or place of a function, all that may be the same object by plain assignments."""
+    groups = {}
+    for node in ast.walk(function):
+        if isinstance(node, ast.Assign):
+            values = [node.value]
+            if isinstance(node.value, ast.IfExp):
+                values = [node.value.body, node.value.orelse]
+            for one in node.targets:
+                for other in values:
+                    if place(one) and place(other):
+                        group = groups.get(place(one), {place(one)}) | groups.get(place(other), {place(other)})
+                        groups.update({name: group for name in group})
+    return groups
+
+
+def changed_places(body):
+    """The names and places that some statements change."""
+    for statement in body:
+        for node in ast.walk(statement):
+            if isinstance(node, ast.Call) and isinstance(node.func, ast.Attribute) and node.func.attr in CHANGING:
+                yield place(node.func.value)
+            elif isinstance(node, ast.Subscript) and not isinstance(node.ctx, ast.Load):
+                yield place(node.value)
 
 
 def bound_names(function):
@@ -187,6 +222,15 @@ class LanguageTest(unittest.TestCase):
                 if called(node) == "set":
                     is_taken = called(above) in ("sorted", "len") or isinstance(above, ast.Compare)
                     self.assertTrue(is_taken, (name, node.lineno))
+
+    def test_what_a_loop_iterates_over_is_not_changed_in_it(self):
+        for name, function in walk_all():
+            if isinstance(function, ast.FunctionDef):
+                groups = same_places(function)
+                for node in ast.walk(function):
+                    if isinstance(node, ast.For):
+                        taken = groups.get(place(node.iter), {place(node.iter)}) - {None}
+                        self.assertEqual(taken & set(changed_places(node.body)), set(), (name, node.lineno))
 
     def test_no_extra_parameters(self):
         for name, node in walk_all():
