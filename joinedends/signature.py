@@ -1,7 +1,7 @@
 """Signatures: the operations from which terms are made."""
 
 from joinedends.errors import Duplicate, InvalidArity, InvalidName, TooLarge, UnknownName, WrongArity
-from joinedends.terms import check_size
+from joinedends.terms import check_size, symbols
 
 MAX_OPERATIONS = 12
 MAX_ARITY = 3
@@ -12,6 +12,13 @@ LETTERS = "abcdefghijklmnopqrstuvwxyz"
 def is_name(text):
     """Return True if the string is a name."""
     return 1 <= len(text) <= MAX_NAME and all([letter in LETTERS for letter in text])
+
+
+def check_names(names, term):
+    """Raise UnknownName for the first name in the term that is not among the names."""
+    for symbol in symbols(term):
+        if isinstance(symbol, str) and symbol not in names:
+            raise UnknownName(symbol)
 
 
 class Signature:

@@ -108,6 +108,16 @@ def replace(term, position, new):
     return result
 
 
+def first_difference(left, right):
+    """Return the first argument, counted from 1, at which two different applications of the
+    same operation differ.
+    """
+    at = 1
+    while left[at] == right[at]:
+        at += 1
+    return at
+
+
 def order_key(term):
     """Return a value whose order is the order of terms."""
     row = []

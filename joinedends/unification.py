@@ -1,6 +1,7 @@
 """Unification: substitutions that turn two terms into the same term."""
 
 from joinedends.errors import TooLarge
+from joinedends.nodes import Nodes
 from joinedends.terms import is_within, substitute, variables
 
 RAISE = 10
@@ -14,30 +15,18 @@ class TermGraph:
     """
 
     def __init__(self):
-        self._numbers = {}
-        self._symbols = []
-        self._arguments = []
+        self._nodes = Nodes()
         self._leaders = []
         # For the leader of each class an application in the class, or None.
         self._forms = []
 
     def add_term(self, term):
         """Return the node of the term."""
-        arguments = []
-        symbol = term
-        if isinstance(term, tuple):
-            symbol = term[0]
-            for argument in term[1:]:
-                arguments.append(self.add_term(argument))
-        key = (symbol, *arguments)
-        if key not in self._numbers:
-            node = len(self._symbols)
-            self._numbers[key] = node
-            self._symbols.append(symbol)
-            self._arguments.append(arguments)
-            self._leaders.append(node)
-            self._forms.append(None if isinstance(term, int) else node)
-        return self._numbers[key]
+        node = self._nodes.number(term)
+        for new in range(len(self._leaders), self._nodes.total()):
+            self._leaders.append(new)
+            self._forms.append(None if isinstance(self._nodes.symbol(new), int) else new)
+        return node
 
     def _leader(self, node):
         while self._leaders[node] != node:
@@ -47,19 +36,19 @@ class TermGraph:
 
     def class_of(self, variable):
         """Return the leader of the class of a variable."""
-        return self._leader(self._numbers[(variable,)])
+        return self._leader(self._nodes.node(variable, []))
 
     def form(self, leader):
         """Return the operation of the applications in the class, or None."""
         node = self._forms[leader]
-        return None if node is None else self._symbols[node]
+        return None if node is None else self._nodes.symbol(node)
 
     def arguments(self, leader):
         """Return the classes of the arguments of the applications in the class."""
         node = self._forms[leader]
         if node is None:
             return []
-        return [self._leader(argument) for argument in self._arguments[node]]
+        return [self._leader(argument) for argument in self._nodes.arguments(node)]
 
     def merge(self, first, second):
         """Put two nodes into one class, with all that follows. Return False if names clash."""
@@ -76,9 +65,9 @@ class TermGraph:
             if left is None:
                 self._forms[kept] = right
             elif right is not None:
-                if self._symbols[left] != self._symbols[right]:
+                if self._nodes.symbol(left) != self._nodes.symbol(right):
                     return False
-                waiting.extend(list(zip(self._arguments[left], self._arguments[right])))
+                waiting.extend(list(zip(self._nodes.arguments(left), self._nodes.arguments(right))))
         return True
 
     def ordered(self, node):

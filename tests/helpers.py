@@ -3,10 +3,11 @@
 import random
 
 from joinedends.notation import read_equation, read_term
+from joinedends.signature import Signature
 
 A = ("a",)
 B = ("b",)
-ARITIES = {"a": 0, "b": 0, "g": 1, "h": 1, "f": 2, "k": 3}
+ARITIES = {"a": 0, "b": 0, "c": 0, "g": 1, "h": 1, "f": 2, "m": 2, "k": 3}
 
 
 def t(text):
@@ -15,6 +16,21 @@ def t(text):
 
 def eq(text):
     return read_equation(text)
+
+
+def signature(names="a b g h f k", commutative=""):
+    """A signature with these operations in this order, each with its arity from ARITIES."""
+    result = Signature()
+    for name in names.split():
+        result.declare(name, ARITIES[name], commutative=name in commutative.split())
+    return result
+
+
+def shuffled(rng):
+    """All names of ARITIES in a seeded order."""
+    names = sorted(ARITIES)
+    rng.shuffle(names)
+    return " ".join(names)
 
 
 def tower(name, height, end):
