@@ -17,8 +17,6 @@ class WeightOrder:
         self._weights = dict(weights)
         self._variable_weight = variable_weight
         self._ranks = {name: signature.rank(name) for name in signature}
-        # The operations that make a tower over a variable as light as the variable: one or none.
-        self._weightless = [name for name in signature if signature.arity(name) == 1 and weights[name] == 0]
 
     def weight(self, term):
         """Return the weight of the term."""
@@ -72,16 +70,12 @@ class WeightOrder:
         if more < 0 or isinstance(left, int):
             return None
         if isinstance(right, int):
-            return "power" if self._is_power(left, right) else None
+            # The variable occurs in left. Every other leaf and every other operation than the
+            # weightless one of arity 1 would make left heavier than it.
+            return "power"
         if left[0] == right[0]:
             return "lexical"
         return "name" if self._ranks[left[0]] > self._ranks[right[0]] else None
-
-    def _is_power(self, term, variable):
-        """Return True if the term consists of weightless operations over the variable."""
-        while isinstance(term, tuple) and term[0] in self._weightless:
-            term = term[1]
-        return term == variable
 
 
 def _are_weights(signature, weights, variable_weight):

@@ -4,6 +4,7 @@ import random
 
 from joinedends.notation import read_equation, read_term
 from joinedends.signature import Signature
+from joinedends.terms import occurs
 
 A = ("a",)
 B = ("b",)
@@ -65,6 +66,10 @@ def sized(count):
     return ("f", sized(half), sized(count - 1 - half))
 
 
+def rules_of(*texts):
+    return [read_equation(text) for text in texts]
+
+
 def random_term(rng, depth, variables=3):
     if depth == 1 or rng.random() < 0.2:
         if rng.random() < 0.6:
@@ -92,3 +97,27 @@ def plain_substitute(term, substitution):
     if isinstance(term, int):
         return substitution.get(term, term)
     return (term[0],) + tuple(plain_substitute(part, substitution) for part in term[1:])
+
+
+def plain_unify(left, right):
+    """The solved form, found by solving one pair after the other, or None."""
+    found = {}
+    waiting = [(left, right)]
+    while waiting:
+        one, other = (plain_substitute(side, found) for side in waiting.pop())
+        if one == other:
+            continue
+        if isinstance(one, int) and isinstance(other, int):
+            one, other = max(one, other), min(one, other)
+        elif isinstance(other, int):
+            one, other = other, one
+        if isinstance(one, int):
+            if occurs(one, other):
+                return None
+            found = {key: plain_substitute(value, {one: other}) for key, value in found.items()}
+            found[one] = other
+        elif one[0] != other[0]:
+            return None
+        else:
+            waiting.extend(zip(one[1:], other[1:]))
+    return found

@@ -1,34 +1,10 @@
 import unittest
 
-from helpers import A, B, bush, plain_substitute, random_term, seeded, sized, t, tower
+from helpers import A, B, bush, plain_substitute, plain_unify, random_term, seeded, sized, t, tower
 from joinedends.errors import HallError, TooLarge
 from joinedends.matching import match_lists
 from joinedends.terms import depth, occurs, size, variables
 from joinedends.unification import raised, unify
-
-
-def plain_unify(left, right):
-    """The solved form, found by solving one pair after the other, or None."""
-    found = {}
-    waiting = [(left, right)]
-    while waiting:
-        one, other = (plain_substitute(side, found) for side in waiting.pop())
-        if one == other:
-            continue
-        if isinstance(one, int) and isinstance(other, int):
-            one, other = max(one, other), min(one, other)
-        elif isinstance(other, int):
-            one, other = other, one
-        if isinstance(one, int):
-            if occurs(one, other):
-                return None
-            found = {key: plain_substitute(value, {one: other}) for key, value in found.items()}
-            found[one] = other
-        elif one[0] != other[0]:
-            return None
-        else:
-            waiting.extend(zip(one[1:], other[1:]))
-    return found
 
 
 def rows(name, count, make):
