@@ -23,7 +23,8 @@ class TermGraph:
     def add_term(self, term):
         """Return the node of the term."""
         node = self._nodes.number(term)
-        for new in range(len(self._leaders), self._nodes.total()):
+        start = len(self._leaders)
+        for new in range(start, self._nodes.total()):
             self._leaders.append(new)
             self._forms.append(None if isinstance(self._nodes.symbol(new), int) else new)
         return node
