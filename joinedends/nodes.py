@@ -20,6 +20,14 @@ class Nodes:
             arguments.append(self.number(argument))
         return self.node(term[0], arguments)
 
+    def find(self, term):
+        """Return the node of the term, or None if it has none."""
+        parts = [term if isinstance(term, int) else term[0]]
+        if isinstance(term, tuple):
+            for argument in term[1:]:
+                parts.append(self.find(argument))
+        return self._numbers.get(tuple(parts))
+
     def node(self, symbol, arguments):
         """Return the node of a variable, or of the application to the terms of other nodes."""
         # Terms themselves may be nested too deep for keys.

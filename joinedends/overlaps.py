@@ -4,49 +4,52 @@ from joinedends.errors import NoPosition, TooLarge
 from joinedends.measures import filled, profile
 from joinedends.rules import check_rules
 from joinedends.terms import is_within, positions, replace, substitute, subterm, variables
-from joinedends.unification import RAISE, raised, unify
+from joinedends.unification import RAISE, check_raisable, raised, unify
 
 
 def overlap_at(rules, outer, inner, position):
     """Return the overlap (peak, left, right, steps) of rule inner into rule outer, or None."""
-    _check_variables(rules[outer])
-    _check_variables(rules[inner])
+    check_raisable(rules[outer])
+    check_raisable(rules[inner])
     try:
         part = subterm(rules[outer][0], position)
     except NoPosition:
         return None
-    return _overlap(rules, outer, inner, position, part)
+    return overlap_on(rules, outer, inner, position, part)
 
 
 def overlaps(rules):
     """Return the list of all overlaps as tuples (outer, inner, position, peak, left, right, steps)."""
     check_rules(rules)
     for rule in rules:
-        _check_variables(rule)
+        check_raisable(rule)
     found = []
-    for outer, (left, _) in enumerate(rules):
-        places = [(position, subterm(left, position)) for position in positions(left)]
-        for inner in range(len(rules)):
-            for position, part in places:
-                overlap = _overlap(rules, outer, inner, position, part)
-                if overlap is not None:
-                    found.append((outer, inner, position, *overlap))
+    for outer in range(len(rules)):
+        found.extend(overlaps_into(rules, outer))
     return found
 
 
-def _check_variables(rule):
-    """Raise TooLarge if the rule has a variable that cannot be raised."""
-    for side in rule:
-        raised(side)
+def overlaps_into(rules, outer):
+    """Return the list of the overlaps of all rules into rule outer."""
+    found = []
+    spots = places(rules[outer][0])
+    for inner, (left, _) in enumerate(rules):
+        for position, part in spots.get(left[0], []):
+            overlap = overlap_on(rules, outer, inner, position, part)
+            if overlap is not None:
+                found.append((outer, inner, position, *overlap))
+    return found
 
 
-def _overlap(rules, outer, inner, position, part):
+def overlap_on(rules, outer, inner, position, part):
     """Return the overlap at the position, where part is the subterm there, or None."""
     if isinstance(part, int) or (len(position) == 0 and inner >= outer):
         return None
-    # Most pairs of rules differ already here.
-    if part[0] != rules[inner][0][0]:
+    # Most pairs of terms differ in a name, which is quickly seen.
+    if _have_clash(part, rules[inner][0]):
         return None
+    # Else a variable of the outer rule could be one of the raised ones.
+    check_raisable(rules[outer])
     solved = unify(part, raised(rules[inner][0]))
     if solved is None:
         return None
@@ -60,6 +63,28 @@ def _overlap(rules, outer, inner, position, part):
     steps = [(("given", inner), False, position, _values(rules[inner], RAISE, solved, renaming)),
              (("given", outer), True, (), _values(rules[outer], 0, solved, renaming))]
     return peak, left, right, steps
+
+
+def places(left):
+    """Return a dict from each name in the term to the list of its tuples (position, subterm)."""
+    found = {}
+    for position in positions(left):
+        part = subterm(left, position)
+        if isinstance(part, tuple):
+            found.setdefault(part[0], []).append((position, part))
+    return found
+
+
+def _have_clash(first, second):
+    """Return True if two terms have different names at one position."""
+    waiting = [(first, second)]
+    while waiting:
+        left, right = waiting.pop()
+        if isinstance(left, tuple) and isinstance(right, tuple):
+            if left[0] != right[0]:
+                return True
+            waiting.extend(list(zip(left[1:], right[1:])))
+    return False
 
 
 def _values(rule, raise_by, solved, renaming):

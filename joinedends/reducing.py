@@ -44,6 +44,10 @@ class Reducer:
         rule, values = self._matches_at(node)[0]
         return self._step(rule, position, values)
 
+    def is_normal(self, term):
+        """Return True if the term has no redex."""
+        return not self._is_reducible(self._nodes.number(term))
+
     def normal_form(self, term, strategy, limit):
         """Return a tuple of the normal form and the list of the steps that lead to it."""
         root = self._nodes.number(term)

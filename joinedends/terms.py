@@ -122,12 +122,10 @@ def order_key(term):
     """Return a value whose order is the order of terms."""
     row = []
     for symbol in symbols(term):
-        # Variables and names cannot be compared with each other, so the kind goes first.
-        if isinstance(symbol, int):
-            row.append((0, symbol, ""))
-        else:
-            row.append((1, 0, symbol))
-    return len(row), row
+        # As strings, the digits of a variable come before each name, and the space behind a name
+        # before each letter of a longer one.
+        row.append(f"{symbol:05d}" if isinstance(symbol, int) else symbol + " ")
+    return len(row), "".join(row)
 
 
 def compare_terms(first, second):
@@ -154,8 +152,14 @@ def substitute(term, substitution):
 
 def canonical(left, right):
     """Return the canonical form of the equation."""
+    renaming = canonical_renaming(left, right)
+    return substitute(left, renaming), substitute(right, renaming)
+
+
+def canonical_renaming(left, right):
+    """Return the substitution that gives the canonical form of the equation."""
     renaming = {}
     for variable in variables(left) + variables(right):
         if variable not in renaming:
             renaming[variable] = len(renaming)
-    return substitute(left, renaming), substitute(right, renaming)
+    return renaming

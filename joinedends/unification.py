@@ -100,6 +100,12 @@ def raised(term):
     return substitute(term, renaming)
 
 
+def check_raisable(equation):
+    """Raise TooLarge if the equation has a variable that cannot be raised."""
+    for side in equation:
+        raised(side)
+
+
 def unify(left, right):
     """Return the solved form of the most general unifiers, or None if there is no unifier."""
     graph = TermGraph()

@@ -26,6 +26,7 @@ STATEMENTS = (ast.Assign, ast.AugAssign, ast.If, ast.While, ast.For, ast.Return,
               ast.Raise, ast.Assert, ast.Delete, ast.Try, ast.Expr, ast.FunctionDef, ast.ClassDef, ast.ImportFrom)
 VIEWS = {"zip", "enumerate", "reversed", "range"}
 CHANGING = {"append", "clear", "extend", "insert", "pop", "remove", "reverse", "setdefault", "update", "add"}
+LIBRARY = {"heapq": {"heappush", "heappop", "heapify", "heapreplace", "heappushpop"}}
 TAKERS = {"list", "tuple", "dict", "sorted", "sum", "any", "all", "enumerate", "zip", "min", "max"}
 
 
@@ -133,6 +134,9 @@ class LanguageTest(unittest.TestCase):
         for name, node in walk_all():
             if isinstance(node, ast.ImportFrom):
                 self.assertEqual(node.level, 0)
+                if node.module in LIBRARY:
+                    self.assertLessEqual({alias.name for alias in node.names}, LIBRARY[node.module])
+                    continue
                 package, source = node.module.split(".")
                 self.assertEqual(package, "joinedends")
                 graph[name].add(source)
@@ -156,6 +160,16 @@ class LanguageTest(unittest.TestCase):
                 if isinstance(node, ast.ImportFrom):
                     for alias in node.names:
                         self.assertIn(alias.name, used, name)
+
+    def test_what_the_library_gives_is_only_called(self):
+        for name, tree in TREES.items():
+            parents = parents_of(tree)
+            taken = {alias.name for node in tree.body if isinstance(node, ast.ImportFrom) and node.module in LIBRARY
+                     for alias in node.names}
+            for node in ast.walk(tree):
+                if isinstance(node, ast.Name) and node.id in taken:
+                    self.assertIs(parents[node].func, node, (name, node.lineno))
+                    self.assertEqual(parents[node].keywords, [])
 
     def test_names(self):
         own = set(dir(builtins)) | BARRED
@@ -205,7 +219,9 @@ class LanguageTest(unittest.TestCase):
             if isinstance(node, ast.Raise) and node.exc is not None:
                 self.assertIn(called(node.exc), own, (name, node.lineno))
             if isinstance(node, ast.ExceptHandler):
-                self.assertIn(node.type.id, own | {"KeyError"}, (name, node.lineno))
+                kinds = node.type.elts if isinstance(node.type, ast.Tuple) else [node.type]
+                for kind in kinds:
+                    self.assertIn(kind.id, own | {"KeyError"}, (name, node.lineno))
 
     def test_sets_and_views_are_taken_at_once(self):
         for name, tree in TREES.items():
@@ -231,6 +247,13 @@ class LanguageTest(unittest.TestCase):
                     if isinstance(node, ast.For):
                         taken = groups.get(place(node.iter), {place(node.iter)}) - {None}
                         self.assertEqual(taken & set(changed_places(node.body)), set(), (name, node.lineno))
+
+    def test_what_stands_behind_a_star_of_a_call(self):
+        for name, node in walk_all():
+            if isinstance(node, ast.Call):
+                for part in node.args:
+                    if isinstance(part, ast.Starred):
+                        self.assertIsInstance(part.value, (ast.Name, ast.Attribute), (name, node.lineno))
 
     def test_no_extra_parameters(self):
         for name, node in walk_all():
