@@ -17,7 +17,11 @@ def power(base, exponent):
 
 
 class CompiledEquation:
-    """An equation whose sides are computed from a list of cells."""
+    """An equation whose sides are computed from a list of cells.
+
+    The assignments to its variables are numbered. A mask is an integer with a bit for each of
+    them, so that all assignments are looked at together.
+    """
 
     def __init__(self, left, right, offsets, size):
         nodes = Nodes()
@@ -26,54 +30,61 @@ class CompiledEquation:
         self._size = size
         # For each node the place of its variable and None, or its first cell and its arguments.
         self._rows = []
-        places = {}
+        count = 0
         for node in range(nodes.total()):
             symbol = nodes.symbol(node)
             if isinstance(symbol, int):
-                places[symbol] = len(places)
-                self._rows.append((places[symbol], None))
+                self._rows.append((count, None))
+                count += 1
             else:
                 self._rows.append((offsets[symbol], nodes.arguments(node)))
-        # Equal sides are equal in each model, whatever its cells are.
-        self._assignments = [] if self._left == self._right else _all_lists(size, len(places))
+        # For each variable the masks of the assignments that give it 0, 1 and so on.
+        self._masks = [_masks_of(place, count, size) for place in range(count)]
+        self._all = (1 << power(size, count)) - 1
 
     def failing(self, cells):
         """Return the number of the leading cells that show that the equation does not hold, or
         None if it holds.
         """
-        for assignment in self._assignments:
-            is_equal, reach = self._compare(cells, assignment)
-            if not is_equal:
-                return reach
-        return None
+        unequal, _ = self._compare(cells, self._all)
+        if unequal == 0:
+            return None
+        # One assignment is enough to show it, and it may need fewer cells.
+        return self._compare(cells, unequal & -unequal)[1]
 
     def holding(self, cells):
         """Return the number of the leading cells that show that the equation holds, or None if
         it does not hold.
         """
-        most = 0
-        for assignment in self._assignments:
-            is_equal, reach = self._compare(cells, assignment)
-            if not is_equal:
-                return None
-            most = max(most, reach)
-        return most
+        unequal, reach = self._compare(cells, self._all)
+        return reach if unequal == 0 else None
 
-    def _compare(self, cells, assignment):
-        """Return whether both sides are equal, and the number of the leading cells that were needed."""
+    def _compare(self, cells, chosen):
+        """Return the mask of those of the chosen assignments under which the sides are unequal,
+        and the number of the leading cells that were needed for it.
+        """
+        # Equal sides are equal in each model, whatever its cells are.
+        if self._left == self._right:
+            return 0, 0
         reach = 0
-        values = []
+        found = []
         for first, arguments in self._rows:
             if arguments is None:
-                values.append(assignment[first])
-            else:
-                at = 0
-                for argument in arguments:
-                    at = at * self._size + values[argument]
-                at += first
-                reach = max(reach, at + 1)
-                values.append(cells[at])
-        return values[self._left] == values[self._right], reach
+                found.append(self._masks[first])
+                continue
+            keys = [chosen]
+            for argument in arguments:
+                keys = [mask & other for mask in keys for other in found[argument]]
+            masks = [0] * self._size
+            for at, mask in enumerate(keys, first):
+                if mask != 0:
+                    masks[cells[at]] |= mask
+                    reach = max(reach, at + 1)
+            found.append(masks)
+        unequal = 0
+        for one, other in zip(found[self._left], found[self._right]):
+            unequal |= (one ^ other) & chosen
+        return unequal, reach
 
 
 class Search:
@@ -138,3 +149,12 @@ def _all_lists(size, count):
     for _ in range(count):
         rows = [row + [element] for row in rows for element in range(size)]
     return rows
+
+
+def _masks_of(place, count, size):
+    """Return for each element the mask of the assignments that give it to the variable at a place."""
+    span = power(size, count - 1 - place)
+    masks = [0] * size
+    for number in range(power(size, count)):
+        masks[number // span % size] |= 1 << number
+    return masks

@@ -1,6 +1,6 @@
 """What the tests of completion share: orders, states, and checks of derivations."""
 
-from helpers import random_term, rules_of, shuffled, signature
+from helpers import A, random_term, rules_of, shuffled, signature
 from joinedends.chains import is_derivation
 from joinedends.completion import Completion
 from joinedends.notation import write_equation
@@ -9,6 +9,7 @@ from joinedends.polynomialorder import PolynomialOrder
 from joinedends.signature import Signature
 from joinedends.weightorder import WeightOrder
 
+SMALL = "a g f"
 GROUP = ["f(e, x0) = x0", "f(i(x0), x0) = e", "f(f(x0, x1), x2) = f(x0, f(x1, x2))"]
 
 
@@ -58,3 +59,18 @@ def check_derivation(test, given, left, right, stages):
     for number in range(len(stages) - 1):
         later = [step[0] for stage in stages[number + 1:] for step in stage[2]]
         test.assertIn(("stage", number), later)
+
+
+def small(term):
+    """The term with operations of SMALL only."""
+    if isinstance(term, int):
+        return term
+    parts = tuple(small(part) for part in term[1:])
+    if term[0] in ("a", "b"):
+        return A
+    return ("g", parts[0]) if len(parts) == 1 else ("f", *parts[:2])
+
+
+def small_equations(rng, count):
+    return [(small(random_term(rng, rng.choice([2, 3]), 3)), small(random_term(rng, rng.choice([1, 2, 3]), 3)))
+            for _ in range(count)]

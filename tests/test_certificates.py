@@ -2,7 +2,7 @@ import copy
 import unittest
 
 from completion_checks import GROUP, complete_group, group_signature, path_completion
-from helpers import A, B, eq, rules_of, signature, sized, t, tower
+from helpers import A, B, rules_of, signature, sized, t, tower
 from joinedends.certificates import accepts, common_end, make_certificate
 from joinedends.chains import is_derivation
 from joinedends.completion import Completion

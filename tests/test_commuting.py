@@ -1,6 +1,6 @@
 import unittest
 
-from helpers import A, B, all_positions, bush, comb, plain_substitute, random_term, seeded, signature, t, tower
+from helpers import A, B, all_positions, bush, comb, plain_substitute, seeded, signature, t, tower
 from joinedends.commuting import are_alike, are_combined_alike, combined_form, commutative_matches, sorted_form
 from joinedends.errors import HallError, TooLarge
 from joinedends.terms import compare_terms, depth, replace, size, subterm, variables

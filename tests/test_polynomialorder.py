@@ -1,6 +1,6 @@
 import unittest
 
-from helpers import A, ARITIES, bush, random_term, seeded, shuffled, signature, t, tower
+from helpers import A, ARITIES, bush, seeded, shuffled, signature, t, tower
 from joinedends.errors import HallError, InvalidOrder, UnknownName
 from joinedends.polynomialorder import PolynomialOrder
 from order_checks import ODD, check_answers, check_properties, check_unknown, pairs, spoilt

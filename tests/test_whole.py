@@ -2,40 +2,83 @@
 
 import unittest
 
-from completion_checks import check_derivation, random_equations, random_orders
-from helpers import A, B, eq, plain_substitute, random_term, seeded, signature
+from completion_checks import SMALL, check_derivation, random_equations, random_orders, small, small_equations
+from derivations import side_variables
+from helpers import A, B, all_positions, eq, plain_substitute, random_term, seeded, signature
+from joinedends.answers import answer, is_sound
 from joinedends.certificates import accepts, make_certificate
 from joinedends.chains import flat_length, flatten, is_derivation, shorten, used, visited
 from joinedends.completion import Completion
 from joinedends.ground import Closure
 from joinedends.models import find_model, holds, is_model, separates
 from joinedends.overlaps import overlaps
+from joinedends.matching import match_term
 from joinedends.pathorder import PathOrder
 from joinedends.rewriting import normal_form
+from joinedends.terms import canonical, replace, subterm
 from plain_models import all_models
-
-SMALL = "a g f"
-
-
-def small(term):
-    """The term with operations of SMALL only."""
-    if isinstance(term, int):
-        return term
-    parts = tuple(small(part) for part in term[1:])
-    if term[0] in ("a", "b"):
-        return A
-    return ("g", parts[0]) if len(parts) == 1 else ("f", *parts[:2])
-
-
-def small_equations(rng, count):
-    return [(small(random_term(rng, rng.choice([2, 3]), 3)), small(random_term(rng, rng.choice([1, 2, 3]), 3)))
-            for _ in range(count)]
-
 
 def models_of(given, sizes):
     names = signature(SMALL)
     return [model for size in sizes for model in all_models(names, size)
             if all(holds(model, *equation) for equation in given)]
+
+
+def follower(rng, given, term, count):
+    """A term that some steps by given equations lead to from the term."""
+    for _ in range(count):
+        old, new = rng.choice(given)[::rng.choice([1, -1])]
+        position = rng.choice(all_positions(term))
+        found = match_term(old, subterm(term, position))
+        if found is not None:
+            found = {name: found.get(name, A) for name in side_variables((old, new))}
+            result = replace(term, position, plain_substitute(new, found))
+            term = result if len(all_positions(result)) < 30 else term
+    return term
+
+
+class AnswersTest(unittest.TestCase):
+    def test_same_holds_in_all_small_models(self):
+        names = signature(SMALL)
+        counts = {"same": 0, "apart": 0, "parted": 0, "open": 0}
+        for seed in range(40):
+            rng = seeded(seed)
+            given = small_equations(rng, rng.randrange(1, 4))
+            models = models_of(given, (1, 2))
+            for left, right in small_equations(rng, 4) + given:
+                found = answer(names, given, left, right, max_size=rng.choice([0, 2]))
+                self.assertTrue(is_sound(names, given, left, right, found))
+                if found[0] == "same":
+                    self.assertTrue(all(holds(model, left, right) for model in models))
+                counts[found[0]] += 1
+        self.assertGreater(min(counts["same"], counts["apart"], counts["parted"]), 15)
+
+    def test_nothing_that_follows_is_told_apart_or_parted(self):
+        names = signature(SMALL)
+        counts = {"same": 0, "open": 0}
+        for seed in range(150):
+            rng = seeded(seed)
+            given = small_equations(rng, rng.randrange(1, 4))
+            left = small(random_term(rng, 4, 3))
+            right = follower(rng, given, left, 20)
+            left, right = canonical(left, right)
+            found = answer(names, given, left, right)
+            self.assertIn(found[0], counts)
+            self.assertTrue(is_sound(names, given, left, right, found))
+            counts[found[0]] += left != right
+        self.assertGreater(counts["same"], 30)
+
+    def test_ground_questions_are_always_answered(self):
+        names = signature("a b g f")
+        for seed in range(60):
+            rng = seeded(seed)
+            ground = [plain_substitute(small(random_term(rng, 3, 2)), {0: A, 1: B}) for _ in range(8)]
+            given = list(zip(ground[:6:2], ground[1:6:2]))
+            found = answer(names, given, *ground[6:], steps=0, max_size=0, max_models=0)
+            self.assertIn(found[0], ("same", "apart"))
+            self.assertTrue(is_sound(names, given, *ground[6:], found))
+            right = follower(rng, given, ground[6], 10)
+            self.assertEqual(answer(names, given, ground[6], right, steps=0)[0], "same")
 
 
 class ModelsAndDerivationsTest(unittest.TestCase):
