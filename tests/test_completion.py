@@ -449,13 +449,16 @@ class DeriveTest(unittest.TestCase):
             self.assertEqual(completion.derive(term, term), [(term, term, [])])
 
     def test_more_variables_than_rules_can_have(self):
-        # Such equations are beyond the document, but nothing wrong is derived from them.
+        # Such equations are beyond the document; their overlaps are lost, and all that is derived follows.
         term = ("k", ("k", 0, 1, 2), ("k", 3, 4, 5), ("k", 6, 7, ("f", 8, 9)))
-        given = [(("f", ("f", term, 10), 11), ("f", 11, ("f", 10, term))), eq("f(x0, k(x1, x2, x3)) = g(x1)")]
+        given = [(("f", ("f", term, 10), 11), ("k", 11, 10, 0)), eq("f(x0, k(x1, x2, x3)) = g(x1)")]
         completion = Completion(PathOrder(signature("a g k f")), given)
-        completion.run(6)
+        completion.run(2)
+        # There are three overlaps into the large rule, and one of the large rule into the other one.
+        self.assertEqual((len(completion.rules()), completion.waiting(), completion.lost()), (2, [], 4))
         for k, rule in enumerate(completion.rules()):
             check_derivation(self, given, *rule, completion.derivation(k))
+        self.assertEqual(completion.run(9), "stuck")
 
     def test_long_derivations(self):
         given = rules_of("f(g(x0), x1) = f(x0, f(x0, x1))", "f(a, x0) = x0")
